@@ -94,6 +94,81 @@ func TestP1AllPackets(t *testing.T) {
 	}
 }
 
+// callAll calls everything that a router and its views have, with numbers and bytes right and wrong.
+func callAll(rng *rand.Rand, r *milepost.Router) {
+	number := func() int { return pick(rng, -1, 0, 0, 1, 1, 2, 7, 8, 120, 180, 1000, 1001, math.MinInt, math.MaxInt) }
+	whole, _ := milepost.Encode(response(smallEntries(rng)...))
+	broken := []byte(whole)
+	broken[rng.Intn(len(broken))] = byte(number())
+	r.Receive(number(), whole)
+	r.Receive(number(), string(broken))
+	r.Receive(number(), askAll)
+	r.Tick(number())
+	r.Down(number())
+	r.Update()
+	r.Due()
+	v := r.View()
+	v.Routes()
+	v.Lookup(rng.Uint32())
+	v.Lookup(uint32(number()))
+}
+
+// wantSound asks what holds of all routes, whatever was called.
+func wantSound(t *testing.T, routes []api.Route, neighbours int) {
+	t.Helper()
+	if len(routes) > 60 {
+		t.Errorf("%d routes", len(routes))
+	}
+	for _, x := range routes {
+		data, err := milepost.Encode(response(api.Entry{Prefix: x.Prefix, Tag: x.Tag, Metric: x.Metric}))
+		if err != nil || data == "" || x.From < api.Own || x.From >= neighbours {
+			t.Errorf("a route that may not be: %v", x)
+		}
+	}
+}
+
+func TestP1AllRouters(t *testing.T) {
+	rng := rand.New(rand.NewSource(4))
+	learned := 0
+	for range 300 {
+		c := randomConfig(rng)
+		r := newRouter(t, c.Costs, c.Own...)
+		for range 50 {
+			callAll(rng, r)
+			wantSound(t, r.View().Routes(), len(c.Costs))
+			learned += len(r.View().Routes()) - len(c.Own)
+		}
+	}
+	if learned < 10000 {
+		t.Errorf("only %d routes were learned: the test has gone blind", learned)
+	}
+}
+
+func TestP1AllConfigs(t *testing.T) {
+	rng := rand.New(rand.NewSource(6))
+	made := 0
+	for range 20000 {
+		var c api.Config
+		for range pick(rng, 0, 1, 2, 8, 9) & 15 {
+			c.Costs = append(c.Costs, pick(rng, 1, 2, 3, 4, 5, 6, 7, 15, 0, 16))
+		}
+		for range pick(rng, 0, 1, 2, 20, 21) & 31 {
+			c.Own = append(c.Own, randomEntry(rng).Prefix)
+		}
+		r, err := milepost.New(c)
+		if (r == nil) != (err == api.ErrConfig) || (r != nil) != (err == nil) {
+			t.Errorf("New(%v) = %v, %v", c, r, err)
+		}
+		if r != nil {
+			made++
+			wantSound(t, r.View().Routes(), len(c.Costs))
+		}
+	}
+	if made < 500 {
+		t.Errorf("only %d routers were made: the test has gone blind", made)
+	}
+}
+
 func TestP1NoGoroutineIsLeft(t *testing.T) {
 	before := runtime.NumGoroutine()
 	for range 100 {
@@ -101,6 +176,9 @@ func TestP1NoGoroutineIsLeft(t *testing.T) {
 		milepost.Decode("")
 		milepost.Encode(response(good))
 		milepost.Encode(response())
+	}
+	for range 100 {
+		callAll(rand.New(rand.NewSource(3)), newRouter(t, []int{1, 2, 3}, net8(1)))
 	}
 	if after := runtime.NumGoroutine(); after > before {
 		t.Errorf("%d goroutines before, %d behind", before, after)

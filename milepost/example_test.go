@@ -31,3 +31,36 @@ func ExampleDecode() {
 	fmt.Println(p, err)
 	// Output: {2 [{{167772160 8} 5 3}]} <nil>
 }
+
+func ExampleRouter() {
+	const ten, twenty = 10 << 24, 20 << 24
+	r, err := milepost.New(api.Config{
+		Costs: []int{1, 5},
+		Own:   []api.Prefix{{Addr: ten, Len: 8}},
+	})
+	if err != nil {
+		fmt.Println(err)
+		return
+	}
+	for _, said := range []struct{ from, metric int }{{1, 2}, {0, 3}, {0, 16}, {1, 2}} {
+		data, _ := milepost.Encode(api.Packet{Command: api.Response, Entries: []api.Entry{
+			{Prefix: api.Prefix{Addr: twenty, Len: 8}, Metric: said.metric},
+		}})
+		if _, err := r.Receive(said.from, data); err != nil {
+			fmt.Println(err)
+		}
+		learned := r.View().Routes()[1]
+		fmt.Println("by", learned.From, "metric", learned.Metric)
+	}
+	found, err := r.View().Lookup(twenty + 0x010203)
+	fmt.Println("by", found.From, "metric", found.Metric, err)
+	_, err = r.View().Lookup(30 << 24)
+	fmt.Println(errors.Is(err, api.ErrNone))
+	// Output:
+	// by 1 metric 7
+	// by 0 metric 4
+	// by 0 metric 16
+	// by 1 metric 7
+	// by 1 metric 7 <nil>
+	// true
+}

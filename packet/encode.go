@@ -1,6 +1,8 @@
 package packet
 
 import (
+	"slices"
+
 	"milepost/api"
 	"milepost/prefix"
 )
@@ -13,12 +15,25 @@ func Encode(p api.Packet) (string, error) {
 	if p.Command == api.Request {
 		return askAll, nil
 	}
-	data := make([]byte, 0, headSize+len(p.Entries)*entrySize)
+	return writeResponse(p.Entries), nil
+}
+
+// Responses writes the packets that it takes to tell of all entries, each but the last one full. The entries must be right ones.
+func Responses(entries []api.Entry) []string {
+	var packets []string
+	for part := range slices.Chunk(entries, api.MaxEntries) {
+		packets = append(packets, writeResponse(part))
+	}
+	return packets
+}
+
+func writeResponse(entries []api.Entry) string {
+	data := make([]byte, 0, headSize+len(entries)*entrySize)
 	data = append(data, responseHead...)
-	for _, e := range p.Entries {
+	for _, e := range entries {
 		data = appendEntry(data, e)
 	}
-	return string(data), nil
+	return string(data)
 }
 
 func check(p api.Packet) error {

@@ -1,7 +1,8 @@
-// Package prefix: which addresses and lengths, and which masks, are a prefix's.
+// Package prefix: which addresses and lengths, and which masks, are a prefix's; their order, and which addresses they have.
 package prefix
 
 import (
+	"cmp"
 	"math/bits"
 
 	"milepost/api"
@@ -27,4 +28,14 @@ func Of(addr, mask uint32) (api.Prefix, bool) {
 		return api.Prefix{}, false
 	}
 	return p, true
+}
+
+// Has tells whether an address is one that the prefix has.
+func Has(p api.Prefix, addr uint32) bool {
+	return addr&Mask(p) == p.Addr
+}
+
+// Compare is the order of prefixes: by address, then by length.
+func Compare(a, b api.Prefix) int {
+	return cmp.Or(cmp.Compare(a.Addr, b.Addr), cmp.Compare(a.Len, b.Len))
 }

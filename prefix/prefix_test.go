@@ -79,3 +79,34 @@ func TestOfWhatIsNoMask(t *testing.T) {
 		}
 	}
 }
+
+func TestHasAtEachLengthAndBit(t *testing.T) {
+	const addr = 0x5aa5c33c
+	for length := range 33 {
+		p := api.Prefix{Addr: addr & maskOf(length), Len: length}
+		if !Has(p, addr) || !Has(p, p.Addr) || !Has(p, p.Addr|^maskOf(length)) {
+			t.Errorf("%v does not have its own addresses", p)
+		}
+		for bit := range 32 {
+			other := uint32(addr) ^ 1<<(31-bit)
+			if got, want := Has(p, other), bit >= length; got != want {
+				t.Errorf("Has(%v, %08x) = %v, want %v", p, other, got, want)
+			}
+		}
+	}
+}
+
+func TestCompare(t *testing.T) {
+	inOrder := []api.Prefix{
+		{Addr: 0, Len: 0}, {Addr: 0, Len: 1}, {Addr: 0, Len: 32}, {Addr: 1, Len: 32}, {Addr: 2, Len: 31}, {Addr: 2, Len: 32},
+		{Addr: 0x7f000000, Len: 8}, {Addr: 0x80000000, Len: 1}, {Addr: 0x80000000, Len: 2}, {Addr: math.MaxUint32, Len: 32},
+	}
+	for i, a := range inOrder {
+		for j, b := range inOrder {
+			got := Compare(a, b)
+			if (got < 0) != (i < j) || (got > 0) != (i > j) {
+				t.Errorf("Compare(%v, %v) = %d", a, b, got)
+			}
+		}
+	}
+}
