@@ -5,6 +5,7 @@ import (
 	"math/rand"
 	"runtime"
 	"testing"
+	"time"
 
 	"milepost/api"
 	"milepost/milepost"
@@ -180,9 +181,19 @@ func TestP1NoGoroutineIsLeft(t *testing.T) {
 	for range 100 {
 		callAll(rand.New(rand.NewSource(3)), newRouter(t, []int{1, 2, 3}, net8(1)))
 	}
-	if after := runtime.NumGoroutine(); after > before {
-		t.Errorf("%d goroutines before, %d behind", before, after)
+	wantGoroutines(t, before)
+}
+
+// wantGoroutines gives those that are at their very end, and have told so, time to be counted no more.
+func wantGoroutines(t *testing.T, before int) {
+	t.Helper()
+	for range 1000 {
+		if runtime.NumGoroutine() <= before {
+			return
+		}
+		time.Sleep(time.Millisecond)
 	}
+	t.Errorf("%d goroutines before, %d behind", before, runtime.NumGoroutine())
 }
 
 func FuzzDecode(f *testing.F) {

@@ -64,3 +64,49 @@ func ExampleRouter() {
 	// by 1 metric 7 <nil>
 	// true
 }
+
+func ExampleRouter_Update() {
+	r, err := milepost.New(api.Config{
+		Costs: []int{1, 5},
+		Own:   []api.Prefix{{Addr: 10 << 24, Len: 8}},
+	})
+	if err != nil {
+		fmt.Println(err)
+		return
+	}
+	for _, out := range r.Update() {
+		fmt.Printf("to %d: % x\n", out.To, out.Data)
+	}
+	fmt.Println("due behind it:", len(r.Due()))
+	// Output:
+	// to 0: 02 02 00 00 00 02 00 00 0a 00 00 00 ff 00 00 00 00 00 00 00 00 00 00 01
+	// to 1: 02 02 00 00 00 02 00 00 0a 00 00 00 ff 00 00 00 00 00 00 00 00 00 00 01
+	// due behind it: 0
+}
+
+func ExampleRouter_Due() {
+	r, err := milepost.New(api.Config{
+		Costs: []int{1, 5},
+		Own:   []api.Prefix{{Addr: 10 << 24, Len: 8}},
+	})
+	if err != nil {
+		fmt.Println(err)
+		return
+	}
+	r.Update()
+	data, _ := milepost.Encode(api.Packet{Command: api.Response, Entries: []api.Entry{
+		{Prefix: api.Prefix{Addr: 20 << 24, Len: 8}, Metric: 2},
+	}})
+	if _, err := r.Receive(1, data); err != nil {
+		fmt.Println(err)
+	}
+	for _, out := range r.Due() {
+		p, err := milepost.Decode(out.Data)
+		fmt.Println("to", out.To, p.Entries, err)
+	}
+	fmt.Println("due behind it:", len(r.Due()))
+	// Output:
+	// to 0 [{{335544320 8} 0 7}] <nil>
+	// to 1 [{{335544320 8} 0 16}] <nil>
+	// due behind it: 0
+}

@@ -17,12 +17,13 @@ type model struct {
 
 type modelRoute struct {
 	metric, tag, from, age int
+	changed                bool
 }
 
 func newModel(costs []int, own []api.Prefix) *model {
 	m := &model{costs, map[api.Prefix]*modelRoute{}}
 	for _, p := range own {
-		m.routes[p] = &modelRoute{metric: 1, from: api.Own}
+		m.routes[p] = &modelRoute{metric: 1, from: api.Own, changed: true}
 	}
 	return m
 }
@@ -36,18 +37,21 @@ func (m *model) hear(from int, entries []api.Entry) {
 		x := m.routes[e.Prefix]
 		if x == nil {
 			if metric < 16 && len(m.routes) < 60 {
-				m.routes[e.Prefix] = &modelRoute{metric, e.Tag, from, 0}
+				m.routes[e.Prefix] = &modelRoute{metric, e.Tag, from, 0, true}
 			}
 		} else if x.from == api.Own {
 			continue
 		} else if x.from == from {
 			if metric < 16 {
-				x.age, x.metric, x.tag = 0, metric, e.Tag
+				x.age = 0
+				if x.metric != metric || x.tag != e.Tag {
+					x.metric, x.tag, x.changed = metric, e.Tag, true
+				}
 			} else if x.metric != 16 {
-				x.metric, x.age = 16, 0
+				x.metric, x.age, x.changed = 16, 0, true
 			}
 		} else if metric < x.metric || metric == x.metric && metric < 16 && x.age >= 90 {
-			*x = modelRoute{metric, e.Tag, from, 0}
+			*x = modelRoute{metric, e.Tag, from, 0, true}
 		}
 	}
 }
@@ -60,7 +64,7 @@ func (m *model) tick(n int) {
 			}
 			x.age++
 			if x.metric != 16 && x.age == 180 {
-				x.metric, x.age = 16, 0
+				x.metric, x.age, x.changed = 16, 0, true
 			} else if x.metric == 16 && x.age == 120 {
 				delete(m.routes, p)
 			}
@@ -71,15 +75,30 @@ func (m *model) tick(n int) {
 func (m *model) down(neighbour int) {
 	for _, x := range m.routes {
 		if x.from == neighbour && x.metric != 16 {
-			x.metric, x.age = 16, 0
+			x.metric, x.age, x.changed = 16, 0, true
 		}
 	}
 }
 
+// told is the routes that are told of, all or the changed ones; then none is changed any more.
+func (m *model) told(all bool) []api.Route {
+	l := m.those(func(x *modelRoute) bool { return all || x.changed })
+	for _, x := range m.routes {
+		x.changed = false
+	}
+	return l
+}
+
 func (m *model) all() []api.Route {
+	return m.those(func(*modelRoute) bool { return true })
+}
+
+func (m *model) those(which func(*modelRoute) bool) []api.Route {
 	var l []api.Route
 	for p, x := range m.routes {
-		l = append(l, api.Route{Prefix: p, Tag: x.tag, Metric: x.metric, From: x.from})
+		if which(x) {
+			l = append(l, api.Route{Prefix: p, Tag: x.tag, Metric: x.metric, From: x.from})
+		}
 	}
 	slices.SortFunc(l, func(a, b api.Route) int {
 		if a.Prefix.Addr != b.Prefix.Addr {
@@ -144,15 +163,15 @@ func holdAgainst(t *testing.T, r *milepost.Router, m *model, rng *rand.Rand) {
 	wantFound(t, r.View(), addr, want)
 }
 
-func TestP6P7P9AgainstTheModel(t *testing.T) {
+func TestP6ToP9AgainstTheModel(t *testing.T) {
 	rng := rand.New(rand.NewSource(5))
-	fullOnes := 0
+	fullOnes, partsDue := 0, 0
 	for range 60 {
 		c := randomConfig(rng)
 		r, m := newRouter(t, c.Costs, c.Own...), newModel(c.Costs, c.Own)
 		for range 150 {
 			who := rng.Intn(len(c.Costs))
-			switch rng.Intn(8) {
+			switch rng.Intn(11) {
 			case 0:
 				down(t, r, who)
 				m.down(who)
@@ -162,6 +181,14 @@ func TestP6P7P9AgainstTheModel(t *testing.T) {
 				m.tick(n)
 			case 3:
 				wantAnswer(t, r, who)
+			case 4, 5:
+				due := m.told(false)
+				if len(due) > 0 && len(due) < len(m.routes) {
+					partsDue++
+				}
+				wantTold(t, "due", r.Due(), toldToAll(t, len(c.Costs), due))
+			case 6:
+				wantTold(t, "all", r.Update(), toldToAll(t, len(c.Costs), m.told(true)))
 			default:
 				entries := smallEntries(rng)
 				hear(t, r, who, entries...)
@@ -176,7 +203,7 @@ func TestP6P7P9AgainstTheModel(t *testing.T) {
 			}
 		}
 	}
-	if fullOnes < 100 {
-		t.Errorf("only %d times 60 routes: the test has gone blind", fullOnes)
+	if fullOnes < 100 || partsDue < 500 {
+		t.Errorf("only %d times 60 routes, %d times some due: the test has gone blind", fullOnes, partsDue)
 	}
 }

@@ -107,10 +107,20 @@ func (r *Router) change(step func(table.Table) table.Table) {
 }
 
 // Update tells all neighbours of everything (P8).
-func (r *Router) Update() []api.Out { return nil }
+func (r *Router) Update() []api.Out { return r.announce(table.Table.All) }
 
 // Due tells all neighbours of what has changed (P8).
-func (r *Router) Due() []api.Out { return nil }
+func (r *Router) Due() []api.Out { return r.announce(table.Table.Changed) }
+
+// announce tells within the change, so that what another one changes meanwhile does not pass for told.
+func (r *Router) announce(which func(table.Table) table.Table) []api.Out {
+	var outs []api.Out
+	r.change(func(t table.Table) table.Table {
+		outs = tell.Each(len(r.costs), which(t))
+		return t.Told()
+	})
+	return outs
+}
 
 // View is how everything stands now (P9).
 func (r *Router) View() *View { return r.now.Load() }

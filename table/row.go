@@ -82,3 +82,11 @@ func (r Row) older() Row {
 }
 
 func (r Row) isForgotten() bool { return r.isDying() && r.age == api.Garbage }
+
+func (r Row) isTold() bool { return !r.changed }
+
+// told is the row when all neighbours have been told how it is.
+func (r Row) told() Row {
+	r.changed = false
+	return r
+}

@@ -74,6 +74,17 @@ func (t Table) Lost(neighbour int) Table {
 	return Table{rows}
 }
 
+// All is the table with all its routes.
+func (t Table) All() Table { return t }
+
+// Changed is the table with its changed routes alone.
+func (t Table) Changed() Table {
+	return Table{slices.DeleteFunc(slices.Clone(t.rows), Row.isTold)}
+}
+
+// Told is the table when all neighbours have been told how it is.
+func (t Table) Told() Table { return Table{Write(t, Row.told)} }
+
 // Find is the route by which an address is reached; false, if there is none.
 func (t Table) Find(addr uint32) (api.Route, bool) {
 	// Of prefixes that have one address, the longer one stands behind: from the end, the longest is met first.

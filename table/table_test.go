@@ -57,6 +57,22 @@ func TestP7Steps(t *testing.T) {
 		rowOf(1, 0, 1, api.Own, 0, false), rowOf(2, 7, 16, 0, 0, true), rowOf(3, 7, 5, 1, 0, false), rowOf(4, 7, 16, 0, 110, false))
 }
 
+func TestP8ChangedAndTold(t *testing.T) {
+	start := Table{[]Row{
+		rowOf(1, 0, 1, api.Own, 0, true),
+		rowOf(2, 7, 5, 0, 170, false),
+		rowOf(3, 7, 16, 1, 110, true),
+		rowOf(4, 7, 16, 0, 0, false),
+	}}
+	wantRows(t, "all", start.All(), start.rows...)
+	wantRows(t, "changed", start.Changed(), start.rows[0], start.rows[2])
+	wantRows(t, "told", start.Told(),
+		rowOf(1, 0, 1, api.Own, 0, false), start.rows[1], rowOf(3, 7, 16, 1, 110, false), start.rows[3])
+	wantRows(t, "told, and nothing is changed", start.Told().Changed())
+	wantRows(t, "told of nothing", Table{}.Told())
+	wantRows(t, "nothing", Table{}.Changed())
+}
+
 // A step makes a new table: neither its rows nor their spare room are those of the one before.
 func TestP9TablesStay(t *testing.T) {
 	start := Start([]api.Prefix{net8(1)}).Heard(0, 1, []api.Entry{entry(2, 7, 5), entry(4, 7, 5)})
@@ -69,6 +85,9 @@ func TestP9TablesStay(t *testing.T) {
 		func() Table { return start.Later(180) },
 		func() Table { return start.Later(1000) },
 		func() Table { return start.Lost(0) },
+		func() Table { return start.Changed() },
+		func() Table { return start.Told() },
+		func() Table { return start.Told().Changed() },
 	} {
 		next := step()
 		clear(next.rows[:cap(next.rows)])
